@@ -34,8 +34,8 @@ class Track:
 
     def joined(self, other):
         """The track of this one's word and the other one's behind it."""
-        spots = {**self.passed, **moved(self.last, other.passed)}
-        return track_of(spots, glued(self.last, other.last))
+        beyond = moved(self.last, other.passed)
+        return track_of({**self.passed, **beyond}, glued(self.last, other.last))
 
     def back(self):
         """The track of the word undone."""
