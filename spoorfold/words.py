@@ -20,6 +20,13 @@ def need_word(text):
         raise BadWord()
 
 
+def need_pairs(pairs):
+    """Refuse pairs in which a text is no word."""
+    for one, other in pairs:
+        need_word(one)
+        need_word(other)
+
+
 def undone(word):
     """The word that takes back what a word does."""
     need_word(word)

@@ -1,4 +1,4 @@
-"""What the document says of words and tracks, written again in the slowest way, to test against."""
+"""What the document says, written again in the slowest way, to test against."""
 
 import itertools
 
@@ -51,3 +51,140 @@ def goes(word, place, moves):
         if place is None:
             return None
     return place
+
+
+def led(word, place, moves):
+    """Where a word leads, moves being triples; None: nowhere."""
+    table = {letter: {} for letter in "abcdefgh"}
+    for letter, start, end in moves:
+        table[letter][start] = end
+    return goes(word, place, table)
+
+
+def seen(many, moves, place):
+    """The least words to the places that words lead to from a place, and the moves by their numbers there.
+
+    All words are tried by rising, so this is for small worlds.
+    """
+    letters = sorted({letter for letter, _, _ in moves})
+    signs = [sign for letter in letters for sign in (letter, letter.upper())]
+    ways = {}
+    for word in words_upto(many - 1, signs):
+        ways.setdefault(led(word, place, moves), word)
+    ways.pop(None, None)
+    numbers = {here: number for number, here in enumerate(ways)}
+    told = sorted((letter, numbers[start], numbers[end]) for letter, start, end in moves if start in numbers)
+    return list(ways.values()), told
+
+
+def claim(facts, likenesses, ahead, row):
+    """The claim that a step of a paper makes, None where it is no step."""
+    def number(thing, things):
+        return type(thing) is int and thing in range(len(things))
+    kind, *things = row
+    if kind == "fact" and len(things) == 1 and number(things[0], facts):
+        return facts[things[0]]
+    if kind == "start" and not things:
+        return ("", "")
+    if not things or not number(things[0], ahead):
+        return None
+    x, z = ahead[things[0]]
+    if kind == "turn" and len(things) == 1:
+        return (z, x)
+    if kind == "on" and len(things) == 2 and number(things[1], ahead):
+        longer, end = ahead[things[1]]
+        fits = [longer[many:] for many in range(len(longer) + 1) if longer[:many] == z]
+        return (x + fits[0], end) if fits else None
+    if kind == "home" and len(things) == 1 and x:
+        return (x + undone(x[-1]), x[:-1])
+    if kind == "like" and len(things) == 3 and number(things[1], likenesses) and type(things[2]) is bool:
+        old, new = likenesses[things[1]] if things[2] else reversed(likenesses[things[1]])
+        fits = [x[:many] for many in range(len(x) + 1) if x[many:] == old]
+        return (fits[0] + new, z) if fits else None
+    if kind == "part" and len(things) == 2 and number(things[1], x + "-"):
+        return (x[:things[1]], x[:things[1]])
+    return None
+
+
+def claims(facts, likenesses, rows):
+    """All claims of a paper, None where it is none."""
+    told = []
+    for row in rows:
+        made = claim(facts, likenesses, told, row)
+        if made is None:
+            return None
+        told.append(made)
+    return told
+
+
+class Web:
+    """A web, laid and folded way by way, with all ways on the table until they are folded."""
+
+    def __init__(self, facts, likenesses, rounds):
+        self.many = 1
+        moves = set()
+        for one, other in facts:
+            end = self.fresh()
+            moves |= self.way(0, one, end) | self.way(0, other, end)
+        self.moves = folded(moves)
+        self.rounds = 0
+        self.likenesses = likenesses
+        while self.rounds < rounds and not self.closed():
+            further = self.further()
+            if len(places_of(further)) > 60:
+                break
+            self.moves = further
+            self.rounds += 1
+
+    def fresh(self):
+        self.many += 1
+        return self.many - 1
+
+    def way(self, start, word, end):
+        """The moves of a way; the empty word's is a move by no letter, which makes two places one."""
+        places = [start] + [self.fresh() for _ in word[1:]] + [end]
+        if not word:
+            return {("", start, end)}
+        steps = zip(places, word, places[1:])
+        return {(sign, here, there) if sign.islower() else (sign.lower(), there, here) for here, sign, there in steps}
+
+    def closed(self):
+        return all(led(one, place, self.moves) == led(other, place, self.moves)
+                   for one, other in self.likenesses for place in places_of(self.moves))
+
+    def further(self):
+        laid = set(self.moves)
+        for left, right in self.likenesses:
+            for one, other in [(left, right), (right, left)]:
+                for place in places_of(self.moves):
+                    end = led(one, place, self.moves)
+                    if end is not None:
+                        laid |= self.way(place, other, end)
+        return folded(laid)
+
+
+def places_of(moves):
+    return {0} | {place for _, *ends in moves for place in ends}
+
+
+def folded(moves):
+    """Make two places one as long as there is a cause, in whatever order a set has."""
+    while True:
+        pair = cause(moves)
+        if pair is None:
+            return {move for move in moves if move[0]}
+        kept, gone = sorted(pair)
+        moves = {(letter, *[kept if place == gone else place for place in ends]) for letter, *ends in moves}
+
+
+def cause(moves):
+    """Two places that must be one, None where there are none."""
+    ends, starts = {}, {}
+    for letter, start, end in moves:
+        if not letter and start != end:
+            return (start, end)
+        if letter and ends.setdefault((letter, start), end) != end:
+            return (ends[letter, start], end)
+        if letter and starts.setdefault((letter, end), start) != start:
+            return (starts[letter, end], start)
+    return None
