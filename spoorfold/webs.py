@@ -3,8 +3,8 @@
 from spoorfold.errors import BadRounds
 from spoorfold.folds import Fold
 from spoorfold.kinds import is_upto
-from spoorfold.words import SIGNS, need_pairs, need_word
-from spoorfold.worlds import world_of
+from spoorfold.words import need_pairs, need_word
+from spoorfold.worlds import world_by
 
 ROUNDS = 6
 MOST_ROUNDS = 20
@@ -17,8 +17,7 @@ class Web:
     def __init__(self, facts, likenesses, *, rounds=ROUNDS):
         need_pairs(facts)
         need_pairs(likenesses)
-        if not is_upto(rounds, MOST_ROUNDS):
-            raise BadRounds()
+        need_rounds(rounds)
         fold = fold_of(facts)
         many = 0
         while many < rounds and not is_closed(fold, likenesses):
@@ -61,6 +60,12 @@ class Web:
         return len(self.shape)
 
 
+def need_rounds(rounds):
+    """Refuse what is no number of rounds."""
+    if not is_upto(rounds, MOST_ROUNDS):
+        raise BadRounds()
+
+
 def fold_of(facts):
     """The fold of the ways of facts."""
     fold = Fold()
@@ -76,12 +81,10 @@ def fold_of(facts):
 
 def shape_of(fold):
     """A fold as a world, seen from its start."""
-    numbers = {place: number for number, place in enumerate(fold.standing())}
-    leads = {sign: {} for sign in SIGNS}
-    for place in numbers:
-        for sign in fold.outs[place]:
-            leads[sign][numbers[place]] = numbers[fold.outs[place][sign][0]]
-    return world_of(len(numbers), leads).seen()
+    outs = {}
+    for place in fold.standing():
+        outs[place] = {sign: end for sign, (end, claim) in fold.outs[place].items()}
+    return world_by(outs)
 
 
 def is_closed(fold, likenesses):

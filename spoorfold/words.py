@@ -20,11 +20,16 @@ def need_word(text):
         raise BadWord()
 
 
+def need_words(texts):
+    """Refuse texts of which one is no word."""
+    for text in texts:
+        need_word(text)
+
+
 def need_pairs(pairs):
     """Refuse pairs in which a text is no word."""
-    for one, other in pairs:
-        need_word(one)
-        need_word(other)
+    for pair in pairs:
+        need_words(pair)
 
 
 def undone(word):

@@ -140,3 +140,13 @@ def world_of(many, leads):
     world.places = list(range(many))
     world.leads = leads
     return world
+
+
+def world_by(outs):
+    """The world in which each place leads by signs as told, whatever it is told by, seen from the first one."""
+    numbers = {place: number for number, place in enumerate(outs)}
+    leads = {sign: {} for sign in SIGNS}
+    for place in outs:
+        for sign in outs[place]:
+            leads[sign][numbers[place]] = numbers[outs[place][sign]]
+    return world_of(len(numbers), leads).seen()

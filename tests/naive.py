@@ -188,3 +188,45 @@ def cause(moves):
         if letter and starts.setdefault((letter, end), start) != start:
             return (starts[letter, end], start)
     return None
+
+
+def motions(many, moves):
+    """The motions of a world, each with its least word: all are found by making, then all words tried by rising."""
+    letters = sorted({letter for letter, _, _ in moves})
+    signs = [sign for letter in letters for sign in (letter, letter.upper())]
+
+    def motion(word):
+        return tuple(led(word, place, moves) for place in range(many))
+    found = {motion("")}
+    while True:
+        more = found | {tuple(None if place is None else motion(sign)[place] for place in one)
+                        for one in found for sign in signs}
+        if more == found:
+            break
+        found = more
+    least = {}
+    for length in itertools.count():
+        for row in itertools.product(signs, repeat=length):
+            least.setdefault(motion("".join(row)), "".join(row))
+        if len(least) == len(found):
+            return sorted([(word, one) for one, word in least.items()], key=lambda pair: rank(pair[0]))
+
+
+def boxes(made):
+    """The boxes of motions, by what the document says of two stills and of a still's turnings."""
+    def still(places):
+        return tuple(place if place in places else None for place in range(len(made[0])))
+
+    def leads_just(one, here, there):
+        return {start for start, end in enumerate(one) if end is not None} == set(here) and \
+            {end for end in one if end is not None} == set(there)
+    rest = [places for many in range(len(made[0]) + 1) for places in itertools.combinations(range(len(made[0])), many)
+            if still(places) in made]
+    told = []
+    while rest:
+        box = [places for places in rest if any(leads_just(one, rest[0], places) for one in made)]
+        counts = {sum(leads_just(one, places, places) for one in made) for places in box}
+        assert len(counts) == 1
+        told.append((tuple(sorted(box)), counts.pop()))
+        rest = [places for places in rest if places not in box]
+    return sorted(told)

@@ -23,6 +23,9 @@ INTERFACE = {
                             "__repr__").split()},
     "papers.py": {name: [] for name in "claims shows".split()},
     "webs.py": {"Web": "closed rounds go world paper __len__".split()},
+    "verdicts.py": {name: [] for name in "judge alike beneath".split()},
+    "orders.py": {name: [] for name in "motions stills boxes kin are_kin".split()},
+    "roses.py": {name: [] for name in "rose made_of makers sides shared parting".split()},
 }
 
 
