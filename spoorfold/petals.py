@@ -16,7 +16,7 @@ class Petals:
         self.signs = [0]
         # Of each place that is one with another that one, and the row between them.
         self.became = {}
-        # What must be one place, by how many pairs its row has.
+        # The ways that make two places one, by how many pairs the row between these has.
         self.waiting = {}
         for number, word in enumerate(words):
             self.lay(number, word)
@@ -35,46 +35,66 @@ class Petals:
 
     def home(self, word):
         """The row of a reduced word that comes home when all is folded."""
-        # Rows can grow beyond all bounds, so no more is folded than this word needs, short rows first.
-        while not self.is_home(word):
-            row = self.waiting.pop(min(list(self.waiting)))
-            for one, other, known in row:
-                self.merge(one, other, known)
+        # Rows can grow beyond all bounds, so short ones go first, and no more is folded than the word needs.
+        while self.waiting:
+            least = min(list(self.waiting))
+            longest = self.longest(word)
+            if longest is not None and longest < least:
+                break
+            ways = self.waiting.pop(least)
+            for way in ways:
+                self.resume(way, least)
         here, told = 0, ()
         for sign in word:
             here, known = self.outs[here][sign]
             told = linked(told, known)
         return told
 
-    def is_home(self, word):
-        """Whether a word leads from the start to the start so far."""
-        here = 0
+    def longest(self, word):
+        """How many pairs the longest row on a word's way home has, None where it does not come home so far."""
+        here, most = 0, 0
         for sign in word:
             if sign not in self.outs[here]:
-                return False
-            here = self.outs[here][sign][0]
-        return here == 0
+                return None
+            here, row = self.outs[here][sign]
+            most = max(most, len(row))
+        return most if here == 0 else None
 
     def connect(self, start, sign, end, known):
-        """Put a way with its row; where there is one already, what must be one place then waits."""
+        """Put a way with its row, or let it wait where it makes two places one."""
+        clash = self.clash(start, sign, end, known)
+        if clash is not None:
+            self.waiting.setdefault(len(clash[2]), []).append((start, sign, end, known))
+        elif sign not in self.outs[start] or len(known) < len(self.outs[start][sign][1]):
+            self.outs[start][sign] = (end, known)
+            self.outs[end][sign.swapcase()] = (start, against(known))
+
+    def clash(self, start, sign, end, known):
+        """Two places that a way makes one, and the row between them, None where there are no such."""
         other = sign.swapcase()
         if sign in self.outs[start]:
             place, row = self.outs[start][sign]
-            if place != end:
-                self.defer(place, end, linked(against(row), known))
-                return
-            if len(row) <= len(known):
-                return
-        elif other in self.outs[end]:
+            return None if place == end else (place, end, linked(against(row), known))
+        if other in self.outs[end]:
             place, row = self.outs[end][other]
-            self.defer(place, start, linked(against(row), against(known)))
-            return
-        self.outs[start][sign] = (end, known)
-        self.outs[end][other] = (start, against(known))
+            return (place, start, linked(against(row), against(known)))
+        return None
 
-    def defer(self, one, other, known):
-        """Let two places that must be one wait for it."""
-        self.waiting.setdefault(len(known), []).append((one, other, known))
+    def resume(self, way, most):
+        """Put a way that has waited; what it makes one is made one where the row has at most so many pairs."""
+        start, sign, end, known = self.as_now(way)
+        clash = self.clash(start, sign, end, known)
+        if clash is not None and len(clash[2]) <= most:
+            self.merge(clash[0], clash[1], clash[2])
+            start, sign, end, known = self.as_now((start, sign, end, known))
+        self.connect(start, sign, end, known)
+
+    def as_now(self, way):
+        """A way between the places by which its places are told."""
+        start, sign, end, known = way
+        first, ahead = self.now(start)
+        last, beyond = self.now(end)
+        return (first, sign, last, linked(linked(against(ahead), known), beyond))
 
     def now(self, place):
         """The place by which a place is told, and the row between them."""
@@ -84,24 +104,16 @@ class Petals:
             known = linked(known, row)
         return here, known
 
-    def merge(self, one, other, known):
-        """Make two places one, or let them wait again where their row is longer by now."""
-        first, ahead = self.now(one)
-        second, beyond = self.now(other)
-        row = linked(linked(against(ahead), known), beyond)
-        if first == second:
-            return
-        if len(row) > len(known):
-            self.defer(first, second, row)
-        elif (self.signs[first], first) < (self.signs[second], second):
-            self.move(second, first, against(row))
+    def merge(self, one, other, row):
+        """Make two places one."""
+        if (self.signs[one], one) < (self.signs[other], other):
+            self.move(other, one, against(row))
         else:
-            self.move(first, second, row)
+            self.move(one, other, row)
 
     def move(self, gone, kept, row):
         """Let a place be told by another one, which gets its ways."""
         outs = self.outs[gone]
-        self.outs[gone] = {}
         self.became[gone] = (kept, row)
         for sign in list(outs):
             end, known = outs[sign]

@@ -2,7 +2,7 @@
 
 from spoorfold.petals import Petals
 from spoorfold.webs import Web
-from spoorfold.words import LETTERS, glued, need_word, need_words, reduced, turned
+from spoorfold.words import glued, letters_in, need_word, need_words, reduced, turned
 from spoorfold.worlds import world_by
 
 
@@ -56,8 +56,8 @@ def parting(words, word):
     if paper is not None:
         return ("home", paper)
     # The way of the word is laid beside the rose, and ends elsewhere than at the start.
-    world = Web([*home_facts(words), (goal, goal)], []).world()
-    return ("away", world.widened(letters_in([*words, word])))
+    world = Web(home_facts(words) + [(goal, goal)], []).world()
+    return ("away", world.widened(letters_in("".join(words) + word)))
 
 
 def home_facts(words):
@@ -68,12 +68,6 @@ def home_facts(words):
 def rose_web(words):
     """The web of words that come home."""
     return Web(home_facts(words), [])
-
-
-def letters_in(words):
-    """The small letters of those in words, rising, each once, a text."""
-    small = "".join(words).lower()
-    return "".join([letter for letter in LETTERS if letter in small])
 
 
 def tree_of(ways):

@@ -47,8 +47,7 @@ def reduced(word):
 def letters_of(word):
     """The small letters of those in a word, rising, each once."""
     need_word(word)
-    small = word.lower()
-    return "".join([letter for letter in LETTERS if letter in small])
+    return letters_in(word)
 
 
 def below(one, other):
@@ -64,6 +63,12 @@ def below(one, other):
 def rank(word):
     """What words rise by."""
     return (len(word), word.translate(str.maketrans("aAbBcCdDeEfFgGhH", "abcdefghijklmnop")))
+
+
+def letters_in(word):
+    """The small letters of those in a word of any length, rising, each once."""
+    small = word.lower()
+    return "".join([letter for letter in LETTERS if letter in small])
 
 
 def turned(word):

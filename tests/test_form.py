@@ -26,6 +26,11 @@ INTERFACE = {
     "verdicts.py": {name: [] for name in "judge alike beneath".split()},
     "orders.py": {name: [] for name in "motions stills boxes kin are_kin".split()},
     "roses.py": {name: [] for name in "rose made_of makers sides shared parting".split()},
+    "stands.py": {"is_name": []},
+    "hall.py": {"Hall": ("like strike put forget shelve unshelve together undo redo alike beneath supposing breaks "
+                         "lines coming words text_of shelf paper laid past twin __eq__ __len__ __repr__").split()},
+    "pages.py": {name: [] for name in "page read_page".split()},
+    "desk.py": {"Desk": ["say"]},
 }
 
 

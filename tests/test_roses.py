@@ -219,6 +219,15 @@ class MadeOfTest(unittest.TestCase):
         self.assertEqual(len(self.need_made(words[:-1], "b")), 57)
         self.assertEqual(len(self.need_made(words[:-1], "c")), 56 * 57 + 1)
 
+    def test_a_place_with_a_way_to_itself_that_becomes_one_with_another(self):
+        # b leads from where a leads to that place itself, then c is found to lead there, too.
+        self.need_made(["cdd", "abA", "aC"], "cbC")
+        self.need_made(["cdd", "abA", "ahgfA", "aC"], "chgfbC")
+
+    def test_the_shorter_row_of_two(self):
+        # b is the first word undone and a behind it, or the last word.
+        self.assertEqual(self.need_made(["aB", "a", "b"], "bbb"), [(2, True)] * 3)
+
     def test_refusals(self):
         for text in NO_WORDS:
             for words, word in [([text], "a"), (["a", text], "a"), (["a"], text), ([], text)]:
